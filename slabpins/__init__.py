@@ -1,0 +1,1 @@
+"""Slabpins: pages that size classes hold down."""
