@@ -1,5 +1,6 @@
 """What several tests need."""
 
+import inspect
 import unittest
 
 from slabpins.errors import SlabError
@@ -23,3 +24,9 @@ class Case(unittest.TestCase):
             call(*args, **named)
         self.assertEqual(type(caught.exception), type(expected))
         self.same(vars(caught.exception), vars(expected))
+
+    def defined(self, module, listed):
+        for name, signature in listed.items():
+            function = getattr(module, name)
+            self.assertEqual(function.__module__, module.__name__)
+            self.assertEqual(str(inspect.signature(function)), signature)

@@ -27,13 +27,85 @@ raises NoTable(0)
 >>> from slabpins.tables import played
 >>> played(Slab([(1, 4), (2, 2)], 7), ((), ()), [("put", 1, 0), ("put", 1, 1), ("put", 1, 0), ("free", 1, 2)])
 ((), (1, 1))
+
+>>> from slabpins.slabs import Slab
+>>> from slabpins.arising import order_of
+>>> order_of(Slab([(1, 4), (2, 2)], 6), ((1,), (1, 1)))
+('order', (1, 0))
+
+>>> from slabpins.slabs import Slab
+>>> from slabpins.arising import order_of
+>>> order_of(Slab([(1, 4), (2, 2)], 7), ((1, 1), (1, 1)))
+('stuck', (0, 1))
+
+>>> from slabpins.slabs import Slab
+>>> from slabpins.arising import check_order
+>>> check_order(Slab([(1, 4), (2, 2)], 7), ((1, 1), (1,)), ("stuck", (0,)))
+raises NoCertificate(1)
+
+>>> from slabpins.slabs import Slab
+>>> from slabpins.arising import order_of
+>>> order_of(Slab([(1, 4), (2, 2)], 7), ((1, 1), (1, 1)), pins=((1, 1), ()))
+('stuck', (1,))
+
+>>> from slabpins.slabs import Slab
+>>> from slabpins.tables import played
+>>> from slabpins.schedules import schedule
+>>> slab = Slab([(1, 4)], 5)
+>>> played(slab, ((),), schedule(slab, ((1, 1),)))
+((1, 1),)
+
+>>> from slabpins.slabs import Slab
+>>> from slabpins.greatest import most_pages
+>>> most_pages(Slab([(1, 4), (2, 2)], 7))[0]
+3
+
+>>> from slabpins.slabs import Slab
+>>> from slabpins.greatest import most_pages
+>>> most_pages(Slab([(3, 2)], 2))
+(0, ((),))
+
+>>> from slabpins.slabs import Slab
+>>> from slabpins.greatest import refused_at
+>>> refused_at(Slab([(1, 2)], 3), 1, 0)
+((2,),)
+
+>>> from slabpins.slabs import Slab
+>>> from slabpins.greatest import refused_at
+>>> refused_at(Slab([(1, 4), (2, 2)], 7), 3, 1)
+None
+
+>>> from slabpins.slabs import Slab
+>>> from slabpins.greatest import refused_at
+>>> refused_at(Slab([(1, 1)], 5), 1, 0, pins=((1, 1),))
+raises NoPages(pages=1)
+
+>>> from slabpins.slabs import Slab
+>>> from slabpins.greatest import least_pages
+>>> [least_pages(Slab([(1, 1)], limit)) for limit in (59, 60, 61)]
+[59, 60, None]
+
+>>> from slabpins.slabs import Slab
+>>> from slabpins.greatest import page_rows
+>>> page_rows(Slab([(2, 1)], 4))
+[((), 0, 0), ((0,), 1, 2), ((0,), 2, 4)]
+
+>>> from slabpins.slabs import Slab
+>>> from slabpins.greatest import check_page_rows
+>>> check_page_rows(Slab([(2, 1)], 4), [((0,), 2, 4), ((), 0, 0), ((0,), 1, 2)])
+2
+
+>>> from slabpins.slabs import Slab
+>>> from slabpins.greatest import check_page_rows
+>>> check_page_rows(Slab([(2, 1)], 4), [((), 0, 0), ((0,), 1, 2)])
+raises NoRows(index=3)
 """
 
 
 class Examples(Case):
     def test_blocks(self):
         blocks = BLOCKS.strip().split("\n\n")
-        self.assertEqual(len(blocks), 5)
+        self.assertEqual(len(blocks), 19)
         for block in blocks:
             with self.subTest(block=block):
                 self.check(block.splitlines())

@@ -1,50 +1,10 @@
-"""Compares steps and played with a second, plain account of point 9."""
-
-import itertools
+"""Compares steps and played with the plain account of point 9."""
 
 from slabpins.errors import NoSteps, NoTable
 from slabpins.slabs import Slab
 from slabpins.tables import check_table, empty, live, played, steps
+from tests.model import SLABS, after, is_table, tables_of
 from tests.support import Case
-
-SLABS = [
-    Slab([(1, 2)], 5), Slab([(2, 3)], 9), Slab([(1, 1), (2, 2)], 5), Slab([(3, 2), (2, 2)], 8),
-    Slab([(1, 3), (1, 2)], 4), Slab([(1, 2), (2, 1), (3, 2)], 6), Slab([(4, 1)], 3),
-]
-
-
-def after(slab, table, step):
-    """The table after a step, or None if the step is not possible."""
-    word, number, count = step
-    size, slots = slab.classes()[number]
-    kept = [page for page in table[number]]
-    if word == "put" and count == 0:
-        if sum(map(len, table)) == 60 or [page for page in kept if page != slots]:
-            return None
-    elif count not in kept or (word == "put" and count == slots):
-        return None
-    else:
-        del kept[kept.index(count)]
-    kept = sorted(kept + [count + {"put": 1, "free": -1}[word]])
-    changed = list(table)
-    changed[number] = tuple(page for page in kept if page)
-    held = sum(slab.classes()[at][0] * page for at, row in enumerate(changed) for page in row)
-    return tuple(changed) if word == "free" or held <= slab.limit() else None
-
-
-def is_table(slab, table):
-    held = sum(slab.classes()[at][0] * page for at, row in enumerate(table) for page in row)
-    return held <= slab.limit()
-
-
-def rows_of(slots, most):
-    for many in range(most + 1):
-        yield from itertools.combinations_with_replacement(range(1, slots + 1), many)
-
-
-def tables_of(slab):
-    rows = [rows_of(slots, slab.limit() // size + 1) for size, slots in slab.classes()]
-    return itertools.product(*rows)
 
 
 class Model(Case):

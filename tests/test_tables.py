@@ -1,7 +1,6 @@
 """Points 8 to 11, and points 2 and 3 for tables and steps."""
 
 import copy
-import inspect
 
 from slabpins import tables
 from slabpins.errors import NoSteps, NoTable
@@ -360,9 +359,7 @@ class Names(Case):
         self.raises(NoSteps(0), played, slab=SMALL, table=table, row=[("put", 0, 0)])
 
     def test_functions_are_defined_in_this_module(self):
-        listed = {"check_table": "slab table", "empty": "slab", "live": "slab table", "pages": "slab table",
-                  "steps": "slab table", "played": "slab table row"}
-        for name, arguments in listed.items():
-            function = getattr(tables, name)
-            self.assertEqual(function.__module__, "slabpins.tables")
-            self.assertEqual(list(inspect.signature(function).parameters), arguments.split())
+        self.defined(tables, {
+            "check_table": "(slab, table)", "empty": "(slab)", "live": "(slab, table)", "pages": "(slab, table)",
+            "steps": "(slab, table)", "played": "(slab, table, row)",
+        })
