@@ -169,3 +169,19 @@ class Language(unittest.TestCase):
         for place, node in self.each(ast.Call):
             if isinstance(node.func, ast.Name) and node.func.id == "set":
                 self.assertIn(node, allowed, place)
+
+    def test_l22_builtins_are_called(self):
+        called = [node.func for _, node in self.each(ast.Call)]
+        classes = [part for call, node in self.each(ast.Call) if getattr(node.func, "id", "") == "isinstance"
+                   for part in ast.walk(node.args[1])]
+        named = [part for _, node in self.each(ast.ClassDef) for part in node.bases]
+        for place, node in self.each(ast.Name):
+            if hasattr(builtins, node.id):
+                self.assertIn(node, called + classes + named, place)
+
+    def test_l23_what_is_iterated_at_once(self):
+        allowed = [node.iter for _, node in self.each(ast.For, ast.comprehension)]
+        for place, node in self.each(ast.Call):
+            name = getattr(node.func, "id", getattr(node.func, "attr", ""))
+            if name in ("zip", "enumerate", "reversed", "range", "items", "keys", "values"):
+                self.assertIn(node, allowed, place)
