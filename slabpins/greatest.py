@@ -1,7 +1,7 @@
 """The greatest number of pages, the requests that are refused, and rows that show that there are no more."""
 
 from slabpins.errors import NoPages, NoRows
-from slabpins.pins import peak_bytes, pin_table
+from slabpins.pins import class_costs, peak_bytes, pin_table
 from slabpins.slabs import is_between
 from slabpins.tables import MOST_PAGES, page_total
 
@@ -112,12 +112,7 @@ def least_rows(slab, pinned):
 def peak_lists(slab, pinned):
     """Return, for each class, the list of its peaks with one further page, with two, and so on."""
     room = MOST_PAGES - page_total(pinned)
-    lists = []
-    for number, (size, slots) in enumerate(slab.classes()):
-        first = peak_bytes(slab, pinned, number, 1)
-        # With each page more, one page more is full.
-        lists.append([first + size * slots * full for full in range(room)])
-    return lists
+    return [[peak_bytes(cost, further + 1) for further in range(room)] for cost in class_costs(slab, pinned)]
 
 
 def followers(slab, peaks, row):
@@ -160,10 +155,11 @@ def refusing_key(slab, pinned, least, pages, number):
     All other pages, up to so many in all, belong to the class and are full.
     """
     room = pages - page_total(pinned)
+    cost = class_costs(slab, pinned)[number]
     for numbers, count in least:
         if number not in numbers and count <= room:
             # The refused object would be the first one in a page more.
-            peak = peak_bytes(slab, pinned, number, room - count + 1)
+            peak = peak_bytes(cost, room - count + 1)
             if least[(numbers, count)][0] + peak <= slab.limit():
                 return (numbers, count)
     return None

@@ -41,17 +41,30 @@ def further_pages(table, pinned):
     return [len(counts) - len(least) for counts, least in zip(table, pinned)]
 
 
-def further_bytes(slab, further, numbers):
-    """Return the bytes of some classes' further pages with one object in each of them."""
-    return sum([slab.bytes_of(number) * further[number] for number in numbers])
+def class_costs(slab, pinned):
+    """Return, for each class, a tuple of three numbers of bytes.
+
+    These are the size, what a full page holds, and what is live when the class takes its
+    first further page: all its other pages are full then, and the pins of the other classes stay.
+    """
+    held = byte_total(slab, pinned)
+    costs = []
+    for (size, slots), counts in zip(slab.classes(), pinned):
+        others = held - size * sum(counts)
+        costs.append((size, size * slots, others + size * (len(counts) * slots + 1)))
+    return costs
 
 
-def peak_bytes(slab, pinned, number, further):
+def peak_bytes(cost, further):
     """Return the live bytes when a class takes the last one of so many further pages.
 
-    All its other pages are full then. What other classes hold beyond their pins is not counted.
+    What other classes hold beyond their pins is not counted.
     """
-    size, slots = slab.size_class(number)
-    full = len(pinned[number]) + further - 1
-    others = byte_total(slab, pinned) - size * sum(pinned[number])
-    return others + size * (full * slots + 1)
+    first = cost[2]
+    # With each page more, one page more is full.
+    return first + cost[1] * (further - 1)
+
+
+def further_bytes(costs, further, numbers):
+    """Return the bytes of some classes' further pages with one object in each of them."""
+    return sum([costs[number][0] * further[number] for number in numbers])

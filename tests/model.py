@@ -117,6 +117,57 @@ def verdict(slab, table, pins, answer):
     return None if set(numbers) == set(known) else 2 * n
 
 
+def least(classes, table, pins):
+    """The least limit with which a table arises, by all orders of its classes."""
+    slab = Slab(classes, 10 ** 6)
+    limits = []
+    for order in itertools.permutations(further(table, pins)):
+        needs = [needed(slab, table, pins, order[:at], number) for at, number in enumerate(order)]
+        limits.append(max([held(slab, table)] + needs))
+    return min(limits)
+
+
+def shown(classes, table, pins, numbers):
+    """The limit that classes show by point 22."""
+    slab = Slab(classes, 10 ** 6)
+    if not numbers:
+        return held(slab, table)
+    many = further(table, pins)
+    several = []
+    for number in numbers:
+        size, slots = classes[number]
+        p, q, b = len(table[number]), len(pins[number]), size * sum(pins[number])
+        several.append((p - 1) * slots * size + size - b - (p - q) * size)
+    return held(slab, pins) + sum(classes[number][0] * many[number] for number in numbers) + min(several)
+
+
+def unlimited(classes, table, pins, answer):
+    """The index for which check_limit refuses an answer of the right form, or None."""
+    limit, numbers = answer
+    known = further(table, pins)
+    for index, number in enumerate(numbers):
+        if number not in known or number in numbers[:index]:
+            return index
+    if limit < least(classes, table, pins):
+        return len(numbers)
+    return None if shown(classes, table, pins, numbers) == limit else len(numbers) + 1
+
+
+def distances(slab, pins):
+    """The numbers of the fewest steps to all tables to which steps lead from the pins, past such as have them."""
+    found, level = {pins: 0}, [pins]
+    while level:
+        reached_now = []
+        for table in level:
+            for step in every_step(slab):
+                following = after(slab, table, step)
+                if following and following not in found and has(following, pins):
+                    found[following] = found[table] + 1
+                    reached_now.append(following)
+        level = reached_now
+    return found
+
+
 def refuses(slab, table, pages, number):
     """Whether a request of the class is refused at a table while at most so many pages are in use."""
     size, slots = slab.classes()[number]

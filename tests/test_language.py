@@ -27,6 +27,8 @@ METHODS = """append clear copy count endswith extend find get index insert isaln
 isupper items join keys ljust lower lstrip partition pop remove replace reverse rfind rjust rpartition rsplit rstrip
 setdefault split splitlines startswith strip update upper values zfill bit_length add discard""".split()
 
+AT_ONCE = "list tuple dict sorted sum any all enumerate zip".split()
+
 SPECIAL = "__init__ __eq__ __repr__ __str__ __len__".split()
 
 BARRED = (
@@ -181,6 +183,7 @@ class Language(unittest.TestCase):
 
     def test_l23_what_is_iterated_at_once(self):
         allowed = [node.iter for _, node in self.each(ast.For, ast.comprehension)]
+        allowed += [node.args[0] for _, node in self.each(ast.Call) if getattr(node.func, "id", "") in AT_ONCE]
         for place, node in self.each(ast.Call):
             name = getattr(node.func, "id", getattr(node.func, "attr", ""))
             if name in ("zip", "enumerate", "reversed", "range", "items", "keys", "values"):
