@@ -27,7 +27,7 @@ METHODS = """append clear copy count endswith extend find get index insert isaln
 isupper items join keys ljust lower lstrip partition pop remove replace reverse rfind rjust rpartition rsplit rstrip
 setdefault split splitlines startswith strip update upper values zfill bit_length add discard""".split()
 
-AT_ONCE = "list tuple dict sorted sum any all enumerate zip".split()
+AT_ONCE = "list tuple dict sorted sum any all enumerate zip min max".split()
 
 SPECIAL = "__init__ __eq__ __repr__ __str__ __len__".split()
 
